@@ -1,0 +1,92 @@
+package bourse
+
+import (
+	"bourse/field"
+	"bourse/ladder"
+)
+
+const (
+	timeBytes = 6
+	timeBits  = 8 * timeBytes
+)
+
+// The reasons for which an order is rejected or canceled.
+const (
+	reasonToken  = 'D'
+	reasonSide   = 'B'
+	reasonStock  = 'S'
+	reasonPrice  = 'P'
+	reasonShares = 'Q'
+	reasonKind   = 'K'
+	reasonFull   = 'F'
+
+	reasonOnce = 'I'
+	reasonUser = 'U'
+)
+
+func (b *Bourse) begin(to []byte, letter byte) []byte {
+	return field.PutLow(field.Put(to, letter), b.time, timeBytes)
+}
+
+func (b *Bourse) tellOpened() { b.answers = b.begin(b.answers, 'O') }
+
+func (b *Bourse) tellClosed() { b.answers = b.begin(b.answers, 'Z') }
+
+func (b *Bourse) tellAccepted(o ladder.Order, kind byte) {
+	a := b.begin(b.answers, 'A')
+	a = field.Put(a, o.Token)
+	a = field.Put(a, o.Side)
+	a = field.Put(a, o.Stock)
+	a = field.Put(a, o.Price)
+	a = field.Put(a, o.Shares)
+	a = field.Put(a, kind)
+	b.answers = field.Put(a, o.Reference)
+}
+
+func (b *Bourse) tellRejected(token uint32, reason byte) {
+	a := b.begin(b.answers, 'J')
+	a = field.Put(a, token)
+	b.answers = field.Put(a, reason)
+}
+
+func (b *Bourse) tellCanceled(token uint32, shares uint16, reason byte) {
+	a := b.begin(b.answers, 'X')
+	a = field.Put(a, token)
+	a = field.Put(a, shares)
+	b.answers = field.Put(a, reason)
+}
+
+func (b *Bourse) tellFilled(token uint32, shares, price uint16) {
+	a := b.begin(b.answers, 'F')
+	a = field.Put(a, token)
+	a = field.Put(a, shares)
+	a = field.Put(a, price)
+	b.answers = field.Put(a, b.matches)
+}
+
+func (b *Bourse) tapeRests(o ladder.Order) {
+	t := b.begin(b.tape, 'a')
+	t = field.Put(t, o.Reference)
+	t = field.Put(t, o.Side)
+	t = field.Put(t, o.Stock)
+	t = field.Put(t, o.Shares)
+	b.tape = field.Put(t, o.Price)
+}
+
+func (b *Bourse) tapeExecuted(reference uint32, shares uint16) {
+	t := b.begin(b.tape, 'e')
+	t = field.Put(t, reference)
+	t = field.Put(t, shares)
+	b.tape = field.Put(t, b.matches)
+}
+
+func (b *Bourse) tapeCanceled(reference uint32, shares uint16) {
+	t := b.begin(b.tape, 'x')
+	t = field.Put(t, reference)
+	b.tape = field.Put(t, shares)
+}
+
+func (b *Bourse) tapeGone(reference uint32) {
+	t := b.begin(b.tape, 'd')
+	b.tape = field.Put(t, reference)
+}
