@@ -87,6 +87,13 @@ func TestTimeStandsOnAllThatGoesOut(t *testing.T) {
 	step("X", enter(3, 'B', 0, 4, 2, 'I'), list(now.accepted(3, 'B', 0, 4, 2, 'I', 3), now.canceled(3, 2, 'I')), nil)
 	step("X, x", cancel(1, 3), now.canceled(1, 4, 'U'), now.lessened(1, 4))
 	step("X, d", cancel(1, 0), now.canceled(1, 3, 'U'), now.gone(1))
+	step("A, a", enter(4, 'S', 0, 5, 9, 'D'), now.accepted(4, 'S', 0, 5, 9, 'D', 4), now.rests(4, 'S', 0, 9, 5))
+	step("U, u", replace(4, 5, 6, 8), now.replaced(5, 6, 8, 5, 4), now.swapped(4, 5, 8, 6))
+	step("J, of a replacement", replace(5, 6, 0, 8), now.rejected(6, 'P'), nil)
+	step("A, a", enter(6, 'B', 0, 5, 9, 'D'), now.accepted(6, 'B', 0, 5, 9, 'D', 6), now.rests(6, 'B', 0, 9, 5))
+	step("U, F, d, e, a", replace(6, 7, 6, 10),
+		list(now.replaced(7, 6, 10, 7, 6), now.filled(5, 8, 6, 2), now.filled(7, 8, 6, 2)),
+		list(now.gone(6), now.executed(5, 8, 2), now.rests(7, 'B', 0, 2, 6)))
 	step("Z", []byte{'Q'}, now.closed(), nil)
 }
 
@@ -167,7 +174,7 @@ func TestBookOfNoStock(t *testing.T) {
 
 func TestPartial(t *testing.T) {
 	b := start(t, 1, 10, 4)
-	for _, m := range [][]byte{enter(1, 'B', 0, 1, 1, 'D'), replace(9, 8, 1, 1), cancel(9, 0)} {
+	for _, m := range [][]byte{enter(1, 'B', 0, 1, 1, 'D'), replace(9, 8, 1, 1), replace(1, 2, 1, 1), cancel(9, 0)} {
 		for k := range m {
 			if p := b.Look().Partial; p != k {
 				t.Errorf("P5: %c: %d bytes of %d", m[0], p, k)
@@ -190,4 +197,10 @@ func TestMessageIsDoneAtItsLastByte(t *testing.T) {
 	b.Feed([]byte{})
 	b.Feed(m[len(m)-1:])
 	wantOut(t, "P4: the last byte", b, at(3).accepted(1, 'B', 0, 1, 1, 'D', 1), at(3).rests(1, 'B', 0, 1, 1))
+	m = replace(1, 2, 3, 4)
+	b.Feed(m[:len(m)-1])
+	wantOut(t, "P4: a byte of a replacement is missing", b, nil, nil)
+	b.Tick(3)
+	b.Feed(m[len(m)-1:])
+	wantOut(t, "P4: the last byte of a replacement", b, at(6).replaced(2, 3, 4, 2, 1), at(6).swapped(1, 2, 4, 3))
 }

@@ -48,6 +48,10 @@ func (t at) rejected(token int, reason byte) []byte {
 	return pack("1641", 'J', int(t), token, int(reason))
 }
 
+func (t at) replaced(newToken, price, shares, reference, token int) []byte {
+	return pack("1642244", 'U', int(t), newToken, price, shares, reference, token)
+}
+
 func (t at) canceled(token, shares int, reason byte) []byte {
 	return pack("16421", 'X', int(t), token, shares, int(reason))
 }
@@ -69,6 +73,10 @@ func (t at) lessened(reference, shares int) []byte {
 }
 
 func (t at) gone(reference int) []byte { return pack("164", 'd', int(t), reference) }
+
+func (t at) swapped(reference, newReference, shares, price int) []byte {
+	return pack("164422", 'u', int(t), reference, newReference, shares, price)
+}
 
 func list(messages ...[]byte) []byte { return slices.Concat(messages...) }
 
@@ -111,6 +119,19 @@ func wantBook(t *testing.T, what string, b *bourse.Bourse, stock int, want ...ap
 	t.Helper()
 	if got, e := b.Book(stock); e != api.OK || !slices.Equal(got, want) {
 		t.Errorf("%s: book %d:\n got %+v, %d\nwant %+v", what, stock, got, e, want)
+	}
+}
+
+// wantTokens looks at the order of a book alone.
+func wantTokens(t *testing.T, what string, b *bourse.Bourse, stock int, want ...int) {
+	t.Helper()
+	l, e := b.Book(stock)
+	var got []int
+	for _, o := range l {
+		got = append(got, o.Token)
+	}
+	if e != api.OK || !slices.Equal(got, want) {
+		t.Errorf("%s: book %d: tokens %v, %d, want %v", what, stock, got, e, want)
 	}
 }
 

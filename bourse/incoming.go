@@ -76,6 +76,22 @@ func readEnter(fields []byte) enterMessage {
 	return m
 }
 
+type replaceMessage struct {
+	token    uint32
+	newToken uint32
+	price    uint16
+	shares   uint16
+}
+
+func readReplace(fields []byte) replaceMessage {
+	var m replaceMessage
+	m.token, fields = field.Take[uint32](fields)
+	m.newToken, fields = field.Take[uint32](fields)
+	m.price, fields = field.Take[uint16](fields)
+	m.shares, _ = field.Take[uint16](fields)
+	return m
+}
+
 type cancelMessage struct {
 	token  uint32
 	shares uint16

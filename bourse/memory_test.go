@@ -14,6 +14,7 @@ func session() [][]byte {
 	return [][]byte{
 		enter(1, 'S', 0, 5, 100, 'D'), enter(2, 'S', 0, 6, 50, 'D'), enter(3, 'B', 0, 5, 30, 'I'), cancel(1, 50), enter(1, 'B', 0, 1, 1, 'D'),
 		enter(4, 'B', 1, 3, 7, 'D'), replace(99, 98, 1, 1), cancel(2, 0), enter(5, 'B', 0, 7, 90, 'D'), enter(6, 'B', 0, 7, 5, 'D'),
+		replace(4, 7, 4, 8), replace(7, 7, 4, 8), enter(8, 'S', 0, 9, 50, 'D'), replace(8, 9, 6, 50), replace(6, 10, 2, 5),
 	}
 }
 

@@ -52,22 +52,68 @@ func (m *model) enter(token int, side byte, stock, price, shares int, kind byte)
 	o := api.Order{Reference: m.references, Token: token, Side: side, Stock: stock, Price: price, Shares: shares}
 	m.accepted = append(m.accepted, token)
 	m.answer(now.accepted(token, side, stock, price, shares, kind, o.Reference))
+	o = m.meet(o)
+	if o.Shares > 0 && kind == 'D' {
+		m.rest(o)
+	} else if o.Shares > 0 {
+		m.answer(now.canceled(token, o.Shares, 'I'))
+	}
+}
+
+func (m *model) meet(o api.Order) api.Order {
+	now := at(m.time)
 	for k := m.first(o); o.Shares > 0 && k >= 0; k = m.first(o) {
 		r := &m.resting[k]
 		n := min(o.Shares, r.Shares)
 		m.matches++
 		m.answer(now.filled(r.Token, n, r.Price, m.matches))
-		m.answer(now.filled(token, n, r.Price, m.matches))
+		m.answer(now.filled(o.Token, n, r.Price, m.matches))
 		m.record(now.executed(r.Reference, n, m.matches))
 		o.Shares -= n
 		m.lessen(k, n)
 	}
-	if o.Shares > 0 && kind == 'D' {
-		m.resting = append(m.resting, o)
-		m.record(now.rests(o.Reference, side, stock, o.Shares, price))
-	} else if o.Shares > 0 {
-		m.answer(now.canceled(token, o.Shares, 'I'))
+	return o
+}
+
+func (m *model) rest(o api.Order) {
+	m.resting = append(m.resting, o)
+	m.record(at(m.time).rests(o.Reference, o.Side, o.Stock, o.Shares, o.Price))
+}
+
+func (m *model) replace(token, newToken, price, shares int) {
+	now := at(m.time)
+	k := m.find(token)
+	if k < 0 {
+		return
 	}
+	old := m.resting[k]
+	if r := m.reason(newToken, old.Side, old.Stock, price, shares, 'I'); r != 0 {
+		m.answer(now.rejected(newToken, r))
+		return
+	}
+	m.references++
+	m.accepted = append(m.accepted, newToken)
+	o := api.Order{Reference: m.references, Token: newToken, Side: old.Side, Stock: old.Stock, Price: price, Shares: shares}
+	m.answer(now.replaced(newToken, price, shares, o.Reference, token))
+	if m.first(o) >= 0 {
+		m.record(now.gone(old.Reference))
+		m.lessen(k, old.Shares)
+		if o = m.meet(o); o.Shares > 0 {
+			m.rest(o)
+		}
+		return
+	}
+	m.record(now.swapped(old.Reference, o.Reference, shares, price))
+	if price == old.Price && shares <= old.Shares {
+		m.resting[k] = o
+	} else {
+		m.lessen(k, old.Shares)
+		m.resting = append(m.resting, o)
+	}
+}
+
+func (m *model) find(token int) int {
+	return slices.IndexFunc(m.resting, func(o api.Order) bool { return o.Token == token })
 }
 
 // first finds the order that o meets: -1, if none.
@@ -104,7 +150,7 @@ func (m *model) lessen(k, shares int) {
 }
 
 func (m *model) cancel(token, shares int) {
-	k := slices.IndexFunc(m.resting, func(o api.Order) bool { return o.Token == token })
+	k := m.find(token)
 	if k < 0 || m.resting[k].Shares <= shares {
 		return
 	}
@@ -146,26 +192,55 @@ func pick(r *rand.Rand, most, wrong int) int {
 	return 1 + r.IntN(most)
 }
 
+// pickToken is mostly a new one, now and then one that was accepted.
+func (m *model) pickToken(r *rand.Rand) int {
+	if len(m.accepted) > 0 && r.IntN(8) == 0 {
+		return m.accepted[r.IntN(len(m.accepted))]
+	}
+	return r.IntN(1 << 32)
+}
+
+// pickResting is mostly an order that rests, now and then a token that need not.
+func (m *model) pickResting(r *rand.Rand) api.Order {
+	if len(m.resting) > 0 && r.IntN(5) > 0 {
+		return m.resting[r.IntN(len(m.resting))]
+	}
+	return api.Order{Token: m.pickToken(r), Price: 1, Shares: 1}
+}
+
+func (m *model) nextCancel(r *rand.Rand) []byte {
+	o := m.pickResting(r)
+	shares := r.IntN(120)
+	if r.IntN(2) == 0 {
+		shares = 0
+	}
+	m.cancel(o.Token, shares)
+	return cancel(o.Token, shares)
+}
+
+// nextReplace keeps the price, and the shares or about so many, often enough.
+func (m *model) nextReplace(r *rand.Rand) []byte {
+	o := m.pickResting(r)
+	newToken, price, shares := m.pickToken(r), o.Price, o.Shares-1+r.IntN(3)
+	if r.IntN(2) == 0 {
+		price = pick(r, m.levels, 65535)
+	}
+	if r.IntN(2) == 0 {
+		shares = pick(r, 150, 10000)
+	}
+	m.replace(o.Token, newToken, price, shares)
+	return replace(o.Token, newToken, price, shares)
+}
+
 // next does a message in the model, and answers its bytes.
 func (m *model) next(r *rand.Rand) []byte {
-	token := r.IntN(1<<32 - 1)
-	if len(m.accepted) > 0 && r.IntN(8) == 0 {
-		token = m.accepted[r.IntN(len(m.accepted))]
+	switch r.IntN(10) {
+	case 0:
+		return m.nextCancel(r)
+	case 1, 2, 3:
+		return m.nextReplace(r)
 	}
-	switch r.IntN(8) {
-	case 0, 1:
-		shares := r.IntN(120)
-		if r.IntN(2) == 0 {
-			shares = 0
-		}
-		if len(m.resting) > 0 && r.IntN(3) > 0 {
-			token = m.resting[r.IntN(len(m.resting))].Token
-		}
-		m.cancel(token, shares)
-		return cancel(token, shares)
-	case 2:
-		return replace(0xffffffff, token, r.IntN(1<<16), r.IntN(1<<16)) // of a token that never rests
-	}
+	token := m.pickToken(r)
 	side, kind := "BBBBBBSSSSSSx"[r.IntN(13)], "DDDDDDDDDIIIx"[r.IntN(13)]
 	stock, price, shares := pick(r, m.stocks, 255)-1, pick(r, m.levels, 65535), pick(r, 150, 10000)
 	stock &= 255
@@ -196,23 +271,6 @@ func TestAgainstModel(t *testing.T) {
 				t.Fatalf("seed %d", seed)
 			}
 		}
-	}
-}
-
-// notCrossed: P7.
-func notCrossed(t *testing.T, b *bourse.Bourse, stock int) {
-	t.Helper()
-	buy, sell := 0, api.MaxLevels+1
-	l, _ := b.Book(stock)
-	for _, o := range l {
-		if o.Side == 'B' {
-			buy = max(buy, o.Price)
-		} else {
-			sell = min(sell, o.Price)
-		}
-	}
-	if buy >= sell {
-		t.Errorf("P7: to buy at %d, to sell at %d", buy, sell)
 	}
 }
 
@@ -285,74 +343,6 @@ func TestAnyBytes(t *testing.T) {
 		v := b.Look()
 		if v.Resting > 64 || v.Partial >= api.ReplaceBytes || !v.Open && v.Partial != 0 {
 			t.Errorf("P1: %+v", v)
-		}
-	}
-}
-
-// account adds up, of each token, what was accepted, executed and canceled, and of each match what was filled.
-type account struct{ accepted, executed, canceled int }
-
-func number(bytes []byte) int {
-	n := 0
-	for _, c := range bytes {
-		n = n<<8 | int(c)
-	}
-	return n
-}
-
-func accounts(t *testing.T, answers []byte) (map[int]account, map[int][]int) {
-	t.Helper()
-	tokens, matches := map[int]account{}, map[int][]int{}
-	sizes := map[byte]int{'A': 22, 'J': 12, 'X': 14, 'F': 19}
-	for len(answers) > 0 {
-		letter := answers[0]
-		if sizes[letter] == 0 {
-			t.Fatalf("an answer %q", letter)
-		}
-		token := number(answers[7:11])
-		a := tokens[token]
-		switch letter {
-		case 'A':
-			a.accepted = number(answers[15:17])
-		case 'X':
-			a.canceled += number(answers[11:13])
-		case 'F':
-			a.executed += number(answers[11:13])
-			match := number(answers[15:19])
-			matches[match] = append(matches[match], number(answers[11:13]))
-		}
-		if letter != 'J' {
-			tokens[token] = a
-		}
-		answers = answers[sizes[letter]:]
-	}
-	return tokens, matches
-}
-
-func TestSharesAddUp(t *testing.T) {
-	for seed := range uint64(20) {
-		b := start(t, 3, 8, 30)
-		b.Feed(stream(seed, 3, 8, 30, 1000))
-		tokens, matches := accounts(t, b.Answers())
-		rests := map[int]int{}
-		for stock := range 3 {
-			l, _ := b.Book(stock)
-			for _, o := range l {
-				rests[o.Token] = o.Shares
-			}
-		}
-		for token, a := range tokens {
-			if a.accepted != a.executed+a.canceled+rests[token] {
-				t.Errorf("P9: token %d: %+v, %d rest", token, a, rests[token])
-			}
-		}
-		for match, l := range matches {
-			if len(l) != 2 || l[0] != l[1] || match < 1 || match > len(matches) {
-				t.Errorf("P9: match %d: %v", match, l)
-			}
-		}
-		if len(matches) < 100 {
-			t.Errorf("too few matches: %d", len(matches))
 		}
 	}
 }

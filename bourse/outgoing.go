@@ -49,6 +49,15 @@ func (b *Bourse) tellRejected(token uint32, reason byte) {
 	b.answers = field.Put(a, reason)
 }
 
+func (b *Bourse) tellReplaced(o ladder.Order, oldToken uint32) {
+	a := b.begin(b.answers, 'U')
+	a = field.Put(a, o.Token)
+	a = field.Put(a, o.Price)
+	a = field.Put(a, o.Shares)
+	a = field.Put(a, o.Reference)
+	b.answers = field.Put(a, oldToken)
+}
+
 func (b *Bourse) tellCanceled(token uint32, shares uint16, reason byte) {
 	a := b.begin(b.answers, 'X')
 	a = field.Put(a, token)
@@ -89,4 +98,12 @@ func (b *Bourse) tapeCanceled(reference uint32, shares uint16) {
 func (b *Bourse) tapeGone(reference uint32) {
 	t := b.begin(b.tape, 'd')
 	b.tape = field.Put(t, reference)
+}
+
+func (b *Bourse) tapeReplaced(oldReference uint32, o ladder.Order) {
+	t := b.begin(b.tape, 'u')
+	t = field.Put(t, oldReference)
+	t = field.Put(t, o.Reference)
+	t = field.Put(t, o.Shares)
+	b.tape = field.Put(t, o.Price)
 }

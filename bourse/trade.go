@@ -11,7 +11,7 @@ func (b *Bourse) do(message []byte) {
 	case letterEnter:
 		b.enter(readEnter(fields))
 	case letterReplace:
-		// taken, so that what stands behind it is read from its beginning; replacing is not built yet
+		b.replace(readReplace(fields))
 	case letterCancel:
 		b.cancel(readCancel(fields))
 	default:
@@ -25,7 +25,7 @@ func (b *Bourse) shut() {
 }
 
 func (b *Bourse) enter(m enterMessage) {
-	if reason, rejected := b.whyNot(m); rejected {
+	if reason, rejected := b.whyNotEnter(m); rejected {
 		b.tellRejected(m.token, reason)
 		return
 	}
@@ -39,18 +39,17 @@ func (b *Bourse) enter(m enterMessage) {
 	}
 }
 
-func (b *Bourse) whyNot(m enterMessage) (reason byte, rejected bool) {
-	_, used := b.places[m.token]
+func (b *Bourse) whyNotEnter(m enterMessage) (reason byte, rejected bool) {
 	switch {
-	case used:
+	case b.used(m.token):
 		return reasonToken, true
 	case m.side != ladder.Buy && m.side != ladder.Sell:
 		return reasonSide, true
 	case int(m.stock) >= b.books.Stocks():
 		return reasonStock, true
-	case !within(int(m.price), 1, b.books.Levels()):
+	case !b.onLadder(m.price):
 		return reasonPrice, true
-	case !within(int(m.shares), 1, api.MaxShares):
+	case !sharesMayBe(m.shares):
 		return reasonShares, true
 	case m.kind != kindDay && m.kind != kindOnce:
 		return reasonKind, true
@@ -60,12 +59,26 @@ func (b *Bourse) whyNot(m enterMessage) (reason byte, rejected bool) {
 	return 0, false
 }
 
+func (b *Bourse) used(token uint32) bool {
+	_, used := b.places[token]
+	return used
+}
+
+func (b *Bourse) onLadder(price uint16) bool { return within(int(price), 1, b.books.Levels()) }
+
+func sharesMayBe(shares uint16) bool { return within(int(shares), 1, api.MaxShares) }
+
 func (b *Bourse) accept(m enterMessage) ladder.Order {
-	b.references++
-	b.places[m.token] = ladder.Nowhere
-	o := ladder.Order{Reference: b.references, Token: m.token, Side: m.side, Stock: m.stock, Price: m.price, Shares: m.shares}
+	o := ladder.Order{Reference: b.register(m.token), Token: m.token, Side: m.side, Stock: m.stock, Price: m.price, Shares: m.shares}
 	b.tellAccepted(o, m.kind)
 	return o
+}
+
+// register makes a token known, and answers the reference of its order.
+func (b *Bourse) register(token uint32) uint32 {
+	b.references++
+	b.places[token] = ladder.Nowhere
+	return b.references
 }
 
 func (b *Bourse) rest(o ladder.Order) {

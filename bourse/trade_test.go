@@ -22,6 +22,12 @@ func TestDocumentExample(t *testing.T) {
 	wantOut(t, "line 4", b,
 		[]byte{'X', 0, 0, 0, 0, 0, 0, 0, 0, 0, 7, 0, 20, 'U'},
 		[]byte{'x', 0, 0, 0, 0, 0, 0, 0, 0, 0, 1, 0, 20})
+	b.Feed([]byte{'R', 0, 0, 0, 7, 0, 0, 0, 9, 0, 4, 0, 50})
+	wantOut(t, "line 5", b,
+		[]byte{'U', 0, 0, 0, 0, 0, 0, 0, 0, 0, 9, 0, 4, 0, 50, 0, 0, 0, 3, 0, 0, 0, 7},
+		[]byte{'u', 0, 0, 0, 0, 0, 0, 0, 0, 0, 1, 0, 0, 0, 3, 0, 50, 0, 4})
+	b.Feed([]byte{'E', 0, 0, 0, 9, 'B', 0, 0, 5, 0, 1, 'D'})
+	wantOut(t, "line 6", b, []byte{'J', 0, 0, 0, 0, 0, 0, 0, 0, 0, 9, 'D'}, nil)
 }
 
 func TestEnterIsRejectedForTheFirstReason(t *testing.T) {
@@ -212,11 +218,4 @@ func TestCancel(t *testing.T) {
 		list(at(0).accepted(4, 'S', 0, 5, 19, 'D', 4), at(0).filled(1, 9, 5, 1), at(0).filled(4, 9, 5, 1), at(0).filled(3, 10, 5, 2), at(0).filled(4, 10, 5, 2)),
 		list(at(0).executed(1, 9, 1), at(0).executed(3, 10, 2)))
 	wantLook(t, "none rests", b, api.View{Open: true})
-}
-
-func TestReplaceOfATokenThatDoesNotRestIsNothing(t *testing.T) {
-	b := start(t, 1, 10, 9)
-	b.Feed(list(replace(5, 1, 5, 5), enter(1, 'B', 0, 5, 10, 'D'), replace('E', 'C', 0, 65535)))
-	wantOut(t, "what stands between is done", b, at(0).accepted(1, 'B', 0, 5, 10, 'D', 1), at(0).rests(1, 'B', 0, 10, 5))
-	wantLook(t, "what stands between is done", b, api.View{Resting: 1, Open: true})
 }

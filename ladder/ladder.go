@@ -59,6 +59,20 @@ func (b *Books) Reduce(place int, shares uint16) uint16 {
 	return left
 }
 
+// Replace puts an order in the stead of the one at a place, of the same stock and side. It stands
+// where the old one stood, if it has its price and no more shares; else behind the others of its price.
+func (b *Books) Replace(place int, o Order) {
+	old := &b.pool.orders[place]
+	if o.Price == old.Price && o.Shares <= old.Shares {
+		o.links = old.links
+		*old = o
+		return
+	}
+	b.pool.leave(b.lineOf(*old), place)
+	*old = o
+	b.pool.join(b.lineOf(o), place)
+}
+
 // Meets is the place of the order that this one meets first: Nowhere, if it does not cross.
 func (b *Books) Meets(o Order) int {
 	other := otherSide(o.Side)

@@ -115,3 +115,38 @@ func TestMeets(t *testing.T) {
 		}
 	}
 }
+
+func TestReplace(t *testing.T) {
+	for _, c := range []struct {
+		which         int
+		price, shares uint16
+		want          []uint32
+	}{
+		{0, 2, 10, []uint32{9, 2, 3, 4}}, {1, 2, 1, []uint32{1, 9, 3, 4}}, {2, 2, 10, []uint32{1, 2, 9, 4}},
+		{0, 2, 11, []uint32{2, 3, 9, 4}}, {1, 2, 11, []uint32{1, 3, 9, 4}}, {2, 2, 11, []uint32{1, 2, 9, 4}},
+		{0, 3, 1, []uint32{2, 3, 4, 9}}, {2, 3, 10, []uint32{1, 2, 4, 9}}, {3, 2, 1, []uint32{1, 2, 3, 9}},
+		{1, 1, 1, []uint32{9, 1, 3, 4}}, {3, 4, 99, []uint32{1, 2, 3, 9}},
+	} {
+		b := New(2, 4, 4)
+		var places []int
+		for k := range 3 {
+			places = append(places, b.Rest(order(uint32(k+1), Sell, 1, 2, 10)))
+		}
+		places = append(places, b.Rest(order(4, Sell, 1, 3, 10)))
+		place := places[c.which]
+		b.Replace(place, order(9, Sell, 1, c.price, c.shares))
+		wantBook(t, b, 1, c.want...)
+		if o := b.Order(place); o.Reference != 9 || o.Price != c.price || o.Shares != c.shares {
+			t.Errorf("%+v", o)
+		}
+		if b.Resting() != 4 || !b.Full() {
+			t.Errorf("%d rest", b.Resting())
+		}
+		for _, place := range places { // the lines are whole, from either end
+			b.Reduce(place, b.Order(place).Shares)
+		}
+		wantBook(t, b, 1)
+		b.Rest(order(5, Sell, 1, 2, 1))
+		wantBook(t, b, 1, 5)
+	}
+}
