@@ -76,9 +76,6 @@ func (b *Bourse) Look() api.View {
 	return api.View{Time: int(b.time), Resting: b.books.Resting(), Open: b.open, Partial: b.inbox.have}
 }
 
-// Build builds books out of a tape (P6).
-func Build(tape []byte) ([]api.Order, int, api.Errno) { return nil, 0, api.OK }
-
 func within(n, least, most int) bool { return least <= n && n <= most }
 
 // handOver gives the memory away whole, and keeps no hold on it: the caller may write into it.

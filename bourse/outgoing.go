@@ -10,6 +10,15 @@ const (
 	timeBits  = 8 * timeBytes
 )
 
+// The letters of the tape.
+const (
+	letterRests    = 'a'
+	letterExecuted = 'e'
+	letterLessened = 'x'
+	letterGone     = 'd'
+	letterSwapped  = 'u'
+)
+
 // The reasons for which an order is rejected or canceled.
 const (
 	reasonToken  = 'D'
@@ -74,7 +83,7 @@ func (b *Bourse) tellFilled(token uint32, shares, price uint16) {
 }
 
 func (b *Bourse) tapeRests(o ladder.Order) {
-	t := b.begin(b.tape, 'a')
+	t := b.begin(b.tape, letterRests)
 	t = field.Put(t, o.Reference)
 	t = field.Put(t, o.Side)
 	t = field.Put(t, o.Stock)
@@ -83,25 +92,25 @@ func (b *Bourse) tapeRests(o ladder.Order) {
 }
 
 func (b *Bourse) tapeExecuted(reference uint32, shares uint16) {
-	t := b.begin(b.tape, 'e')
+	t := b.begin(b.tape, letterExecuted)
 	t = field.Put(t, reference)
 	t = field.Put(t, shares)
 	b.tape = field.Put(t, b.matches)
 }
 
-func (b *Bourse) tapeCanceled(reference uint32, shares uint16) {
-	t := b.begin(b.tape, 'x')
+func (b *Bourse) tapeLessened(reference uint32, shares uint16) {
+	t := b.begin(b.tape, letterLessened)
 	t = field.Put(t, reference)
 	b.tape = field.Put(t, shares)
 }
 
 func (b *Bourse) tapeGone(reference uint32) {
-	t := b.begin(b.tape, 'd')
+	t := b.begin(b.tape, letterGone)
 	b.tape = field.Put(t, reference)
 }
 
-func (b *Bourse) tapeReplaced(oldReference uint32, o ladder.Order) {
-	t := b.begin(b.tape, 'u')
+func (b *Bourse) tapeSwapped(oldReference uint32, o ladder.Order) {
+	t := b.begin(b.tape, letterSwapped)
 	t = field.Put(t, oldReference)
 	t = field.Put(t, o.Reference)
 	t = field.Put(t, o.Shares)

@@ -46,5 +46,5 @@ func (b *Bourse) swap(place int, old, o ladder.Order) {
 	b.books.Replace(place, o)
 	b.places[old.Token] = ladder.Nowhere
 	b.places[o.Token] = place
-	b.tapeReplaced(old.Reference, o)
+	b.tapeSwapped(old.Reference, o)
 }

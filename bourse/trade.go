@@ -43,7 +43,7 @@ func (b *Bourse) whyNotEnter(m enterMessage) (reason byte, rejected bool) {
 	switch {
 	case b.used(m.token):
 		return reasonToken, true
-	case m.side != ladder.Buy && m.side != ladder.Sell:
+	case !sideMayBe(m.side):
 		return reasonSide, true
 	case int(m.stock) >= b.books.Stocks():
 		return reasonStock, true
@@ -63,6 +63,8 @@ func (b *Bourse) used(token uint32) bool {
 	_, used := b.places[token]
 	return used
 }
+
+func sideMayBe(side byte) bool { return side == ladder.Buy || side == ladder.Sell }
 
 func (b *Bourse) onLadder(price uint16) bool { return within(int(price), 1, b.books.Levels()) }
 
@@ -123,7 +125,7 @@ func (b *Bourse) cancel(m cancelMessage) {
 	if m.shares == 0 {
 		b.tapeGone(o.Reference)
 	} else {
-		b.tapeCanceled(o.Reference, gone)
+		b.tapeLessened(o.Reference, gone)
 	}
 	b.reduce(place, gone)
 }

@@ -59,11 +59,14 @@ func (b *Books) Reduce(place int, shares uint16) uint16 {
 	return left
 }
 
-// Replace puts an order in the stead of the one at a place, of the same stock and side. It stands
-// where the old one stood, if it has its price and no more shares; else behind the others of its price.
+// KeepsPlace tells whether an order that replaces an old one stands where that one stood,
+// and not behind the others of its price.
+func KeepsPlace(old, o Order) bool { return o.Price == old.Price && o.Shares <= old.Shares }
+
+// Replace puts an order in the stead of the one at a place, of the same stock and side.
 func (b *Books) Replace(place int, o Order) {
 	old := &b.pool.orders[place]
-	if o.Price == old.Price && o.Shares <= old.Shares {
+	if KeepsPlace(*old, o) {
 		o.links = old.links
 		*old = o
 		return
